@@ -1,0 +1,1 @@
+"""Resetcalls: rows of letters that bring all to one hall."""

@@ -1,0 +1,87 @@
+"""What is wrong with an argument, and the errors that say so."""
+
+from resetcalls.errors import BadHall, BadHouse, BadLot, BadRow
+
+MOST_HALLS = 8
+MOST_LETTERS = 6
+MOST_CALLS = 100
+
+
+def is_number(value, least, most):
+    """Whether a value is an integer from least to most."""
+    # Python takes True and False for integers; the package doesn't.
+    if isinstance(value, bool) or not isinstance(value, int):
+        return False
+    return least <= value <= most
+
+
+def is_hall(halls, value):
+    """Whether a value is one of so many halls."""
+    return is_number(value, 0, halls - 1)
+
+
+def is_tuple_of_halls(halls, value):
+    """Whether a value is a tuple of halls, in any order, alike or not."""
+    return isinstance(value, tuple) and all([is_hall(halls, hall) for hall in value])
+
+
+def is_map(halls, value):
+    """Whether a value is a map of so many halls."""
+    return is_tuple_of_halls(halls, value) and len(value) == halls
+
+
+def are_maps(halls, value):
+    """Whether a value is the tuple of a house's maps."""
+    if not isinstance(value, tuple) or not 1 <= len(value) <= MOST_LETTERS:
+        return False
+    return all([is_map(halls, places) for places in value])
+
+
+def is_ascending(numbers):
+    """Whether each number is above the one ahead."""
+    return all([low < high for low, high in zip(numbers, numbers[1:])])
+
+
+def is_lot(halls, value):
+    """Whether a value is a lot of so many halls."""
+    return is_tuple_of_halls(halls, value) and len(value) > 0 and is_ascending(value)
+
+
+def house_fault(value):
+    """The word for what bars a value from being a house, None if nothing does."""
+    if not isinstance(value, tuple) or len(value) != 2:
+        return "whole"
+    halls, maps = value
+    if not is_number(halls, 1, MOST_HALLS):
+        return "halls"
+    if not are_maps(halls, maps):
+        return "maps"
+    return None
+
+
+def check_house(value):
+    """Raise BadHouse for what is no house."""
+    fault = house_fault(value)
+    if fault is not None:
+        raise BadHouse(fault)
+
+
+def check_hall(halls, value):
+    """Raise BadHall for what is none of so many halls."""
+    if not is_hall(halls, value):
+        raise BadHall()
+
+
+def check_lot(halls, value):
+    """Raise BadLot for what is no lot of so many halls."""
+    if not is_lot(halls, value):
+        raise BadLot()
+
+
+def check_row(letters, value):
+    """Raise BadRow for what is no row of so many letters."""
+    if not isinstance(value, tuple) or len(value) > MOST_CALLS:
+        raise BadRow(None)
+    for index, letter in enumerate(value):
+        if not is_number(letter, 0, letters - 1):
+            raise BadRow(index)
