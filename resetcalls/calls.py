@@ -44,6 +44,11 @@ def fewest(rows):
     return min([len(lot) for lot in rows])
 
 
+def is_reset_by(halls, maps):
+    """Whether rows of maps, of however many letters, lead all halls to one."""
+    return first_row_to(rows_from_all((halls, maps)), 1) is not None
+
+
 def reset(house):
     """The least of the shortest rows that lead all halls to one, or None."""
     check_house(house)

@@ -1,6 +1,6 @@
 """What is wrong with an argument, and the errors that say so."""
 
-from resetcalls.errors import BadHall, BadHouse, BadLot, BadRow
+from resetcalls.errors import BadHall, BadHouse, BadLot, BadMap, BadNet, BadNumber, BadRow, NotTurns
 
 MOST_HALLS = 8
 MOST_LETTERS = 6
@@ -37,14 +37,31 @@ def are_maps(halls, value):
     return all([is_map(halls, places) for places in value])
 
 
-def is_ascending(numbers):
-    """Whether each number is above the one ahead."""
-    return all([low < high for low, high in zip(numbers, numbers[1:])])
+def is_ascending(values):
+    """Whether each value is above the one ahead."""
+    return all([low < high for low, high in zip(values, values[1:])])
 
 
 def is_lot(halls, value):
     """Whether a value is a lot of so many halls."""
     return is_tuple_of_halls(halls, value) and len(value) > 0 and is_ascending(value)
+
+
+def is_tie(halls, value):
+    """Whether a value is a tie of so many halls."""
+    return is_lot(halls, value) and len(value) == 2
+
+
+def is_net(halls, value):
+    """Whether a value is a net of so many halls."""
+    if not isinstance(value, tuple) or not all([is_tie(halls, tie) for tie in value]):
+        return False
+    return is_ascending(value)
+
+
+def is_one_to_one(places):
+    """Whether a map leads unlike halls to unlike ones."""
+    return len(set(places)) == len(places)
 
 
 def house_fault(value):
@@ -66,6 +83,19 @@ def check_house(value):
         raise BadHouse(fault)
 
 
+def check_turns(value):
+    """Raise BadHouse for what is no house, NotTurns if a letter is not one to one."""
+    check_house(value)
+    if not all([is_one_to_one(places) for places in value[1]]):
+        raise NotTurns()
+
+
+def check_number_of_halls(value):
+    """Raise BadNumber for what is no number of halls."""
+    if not is_number(value, 1, MOST_HALLS):
+        raise BadNumber()
+
+
 def check_hall(halls, value):
     """Raise BadHall for what is none of so many halls."""
     if not is_hall(halls, value):
@@ -76,6 +106,18 @@ def check_lot(halls, value):
     """Raise BadLot for what is no lot of so many halls."""
     if not is_lot(halls, value):
         raise BadLot()
+
+
+def check_map(halls, value):
+    """Raise BadMap for what is no map of so many halls."""
+    if not is_map(halls, value):
+        raise BadMap()
+
+
+def check_net(halls, value):
+    """Raise BadNet for what is no net of so many halls."""
+    if not is_net(halls, value):
+        raise BadNet()
 
 
 def check_row(letters, value):

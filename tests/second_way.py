@@ -2,7 +2,7 @@
 
 import itertools
 
-from tests.samples import lots_of
+from tests.samples import lots_of, nets_of
 
 
 def walked(house, hall, row):
@@ -86,3 +86,82 @@ def distances_to(house, many):
             return distances
         steps += 1
         distances.update((lot, steps) for lot in near)
+
+
+def tied(net, one, other):
+    """Whether two halls are tied, in whatever order."""
+    return any(set(tie) == {one, other} and one != other for tie in net)
+
+
+def clique_by_lots(halls, net):
+    """The least of the greatest cliques, of all lots."""
+    cliques = [lot for lot in lots_of(halls)
+               if all(tied(net, one, other) for one, other in itertools.combinations(lot, 2))]
+    return min(cliques, key=lambda lot: (-len(lot), lot))
+
+
+def colours_by_tuples(halls, net):
+    """The least tuple with as few unlike numbers as can be, of all that are unlike for ties.
+
+    Each tuple is tried whose numbers come in order at their first places; the
+    others are no less, for their numbers can be given new names in this order.
+    """
+    tuples = [()]
+    for _ in range(halls):
+        tuples = [begun + (number,) for begun in tuples for number in range(len(set(begun)) + 1)]
+    right = [numbers for numbers in tuples if all(numbers[one] != numbers[other] for one, other in net)]
+    return min(right, key=lambda numbers: (len(set(numbers)), numbers))
+
+
+def colours_by_all_tuples(halls, net):
+    """The same of all tuples of numbers, with none left out: for few halls."""
+    right = [numbers for numbers in itertools.product(range(halls), repeat=halls)
+             if all(numbers[one] != numbers[other] for one, other in net)]
+    return min(right, key=lambda numbers: (len(set(numbers)), numbers))
+
+
+def bars(halls, net):
+    """Whether a net is barring."""
+    return net != () and len(clique_by_lots(halls, net)) == len(set(colours_by_tuples(halls, net)))
+
+
+def kept_by(maps, net):
+    """Whether maps lead tied halls to tied ones."""
+    return all(tied(net, places[one], places[other]) for places in maps for one, other in net)
+
+
+def kept_of_all_nets(house):
+    """All nets that are kept by all maps that rows make, of all nets."""
+    maps = maps_by_rows(house)
+    return [net for net in nets_of(house[0]) if kept_by(maps, net)]
+
+
+def never_met(house):
+    """All two halls that no map that rows make leads to one."""
+    maps = maps_by_rows(house)
+    return tuple((one, other) for one, other in itertools.combinations(range(house[0]), 2)
+                 if all(places[one] != places[other] for places in maps))
+
+
+def each_two_meet(halls, maps):
+    """Whether each two halls meet, so that there is a reset; worked out backward."""
+    pairs = list(itertools.combinations(range(halls), 2))
+    met = {(hall, hall) for hall in range(halls)}
+    while True:
+        near = {pair for pair in pairs if pair not in met
+                and any(tuple(sorted((places[pair[0]], places[pair[1]]))) in met for places in maps)}
+        if not near:
+            return len(met) == halls + len(pairs)
+        met |= near
+
+
+def may_bar(house, value):
+    """Whether a tuple of three tuples bars a reset, whatever integers are in it."""
+    net, clique, numbers = value
+    halls = house[0]
+    return (net in nets_of(halls) and kept_by(house[1], net)
+            and clique in lots_of(halls) and len(clique) >= 2
+            and all(tied(net, one, other) for one, other in itertools.combinations(clique, 2))
+            and numbers in set(itertools.product(range(len(clique)), repeat=halls))
+            and not any(tied(net, one, other) and numbers[one] == numbers[other]
+                        for one in range(halls) for other in range(halls)))

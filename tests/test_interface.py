@@ -4,12 +4,25 @@ import importlib
 import inspect
 import unittest
 
+from resetcalls.errors import BadMap
+from resetcalls.groups import resets_with
+
 ARGUMENTS = {
     "houses": {"is_house": ["value"], "led": ["house", "lot", "row"], "map_of": ["house", "row"]},
     "calls": {
         "reset": ["house"], "has_reset": ["house"], "resets_to": ["house"], "lots": ["house"],
         "rank": ["house"], "fewest_row": ["house"], "homing": ["house", "lot"],
         "meeting": ["house", "one", "other"],
+    },
+    "nets": {
+        "keeps": ["house", "net"], "is_barring": ["halls", "net"], "greatest_clique": ["halls", "net"],
+        "colours": ["halls", "net"], "least_colours": ["halls", "net"],
+    },
+    "bars": {"never_meet": ["house"], "bar": ["house"], "shows_bar": ["house", "value"]},
+    "groups": {
+        "pair_lots": ["house"], "kept_nets": ["house"], "barring_nets": ["house"], "resets_all": ["house"],
+        "resisting": ["house"], "group_bar": ["house"], "shows_resisting": ["house", "value"],
+        "shows_group_bar": ["house", "value"],
     },
     "errors": {
         "BadHouse": ["part"], "BadRow": ["index"], "BadLine": ["line", "word"], "TooMany": ["most"],
@@ -26,6 +39,16 @@ class Interface(unittest.TestCase):
                     value = getattr(module, name)
                     self.assertEqual(value.__module__, f"resetcalls.{file}")
                     self.assertEqual(list(inspect.signature(value).parameters), arguments)
+
+    def test_the_argument_that_has_a_builtins_name(self):
+        self.assertEqual(resets_with.__module__, "resetcalls.groups")
+        house = (4, ((1, 2, 3, 0),))
+        for places, answer in [((0, 0, 2, 2), False), ((0, 0, 2, 3), True)]:
+            self.assertIs(resets_with(house, places), answer)
+            self.assertIs(resets_with(house, map=places), answer)
+            self.assertIs(resets_with(map=places, house=house), answer)
+        with self.assertRaises(BadMap):
+            resets_with(house, map=(0, 0, 2))
 
 
 if __name__ == "__main__":

@@ -72,6 +72,10 @@ class Code(unittest.TestCase):
                 self.assertNotIn(node.id, barred, msg=where)
                 if not isinstance(node.ctx, ast.Load):
                     self.assertNotIn(node.id, BUILTINS, msg=where)
+            if isinstance(node, ast.arg):
+                self.assertNotIn(node.arg, vars(builtins), msg=where)
+            if isinstance(node, (ast.FunctionDef, ast.ClassDef)):
+                self.assertNotIn(node.name, vars(builtins), msg=where)
 
 
 def nodes():
