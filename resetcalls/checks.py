@@ -20,6 +20,11 @@ def is_hall(halls, value):
     return is_number(value, 0, halls - 1)
 
 
+def is_letter(letters, value):
+    """Whether a value is one of so many letters."""
+    return is_number(value, 0, letters - 1)
+
+
 def is_tuple_of_halls(halls, value):
     """Whether a value is a tuple of halls, in any order, alike or not."""
     return isinstance(value, tuple) and all([is_hall(halls, hall) for hall in value])
@@ -102,6 +107,12 @@ def check_hall(halls, value):
         raise BadHall()
 
 
+def check_letter(letters, value):
+    """Raise BadNumber for what is none of so many letters."""
+    if not is_letter(letters, value):
+        raise BadNumber()
+
+
 def check_lot(halls, value):
     """Raise BadLot for what is no lot of so many halls."""
     if not is_lot(halls, value):
@@ -125,5 +136,5 @@ def check_row(letters, value):
     if not isinstance(value, tuple) or len(value) > MOST_CALLS:
         raise BadRow(None)
     for index, letter in enumerate(value):
-        if not is_number(letter, 0, letters - 1):
+        if not is_letter(letters, letter):
             raise BadRow(index)

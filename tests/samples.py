@@ -98,12 +98,22 @@ KNOWN_NETS = [
     (8, ((6, 7),), (6, 7), (0, 0, 0, 0, 0, 0, 0, 1)),
 ]
 
+# Houses with a letter that is no turn.
+NOT_TURNS = [HOUSE, THREE, EIGHT_AND_SIX, (2, ((0, 0),)), (2, ((0, 1), (1, 1))), (2, ((1, 1), (0, 1))),
+             (8, (tuple(range(8)),) * 5 + ((0,) + tuple(range(7)),))]
+
+# Values that no function that begins with `shows` takes.
+NO_VALUES = [True, False, 0, 1, "", "0022", (), [], {}, {0: 0}, (None,), [0, 0, 2, 2], ((), (), ()), "map"]
+
 # Groups of turns.
 FOUR_RING = (4, ((1, 2, 3, 0),))
 FIVE_RING = (5, ((1, 2, 3, 4, 0),))
 WITH_4096_NETS = [(7, ((1, 0, 3, 2, 5, 4, 6),)), (8, ((1, 0, 3, 2, 4, 5, 6, 7), (0, 1, 2, 3, 5, 4, 7, 6)))]
 WITH_MORE_NETS = [(6, ((0, 1, 2, 3, 4, 5),)), (7, ((1, 0, 3, 2, 4, 5, 6),)), (8, ((1, 0, 3, 2, 5, 4, 7, 6),)),
                   (8, (tuple(range(8)),) * 6)]
+# Groups with 97 and 112 kept partings: the nearest to 100 that were found.
+WITH_97_PARTINGS = (7, ((1, 0, 3, 2, 4, 5, 6),))
+WITH_112_PARTINGS = (8, ((0, 1, 2, 3, 5, 4, 7, 6), (0, 1, 2, 3, 6, 7, 4, 5)))
 # Groups that lead each two halls, as a lot, to each.
 PAIRWISE = [
     (2, ((1, 0),)), (3, ((1, 2, 0),)), (3, ((1, 2, 0), (1, 0, 2))), (4, ((1, 2, 0, 3), (1, 0, 3, 2))),

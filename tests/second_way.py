@@ -165,3 +165,25 @@ def may_bar(house, value):
             and numbers in set(itertools.product(range(len(clique)), repeat=halls))
             and not any(tied(net, one, other) and numbers[one] == numbers[other]
                         for one in range(halls) for other in range(halls)))
+
+
+def partings_by_numbers(halls):
+    """All partings, ascending: the halls with equal numbers, for all tuples of numbers."""
+    tuples = itertools.product(range(halls), repeat=halls)
+    return sorted({tuple(sorted(tuple(hall for hall in range(halls) if numbers[hall] == number)
+                                for number in set(numbers))) for numbers in tuples})
+
+
+def partings_kept_by(maps, halls):
+    """All partings, ascending, each part of which all maps lead to a part."""
+    return [parting for parting in partings_by_numbers(halls)
+            if all({places[hall] for hall in part} in map(set, parting) for places in maps for part in parting)]
+
+
+def sections_of(house):
+    """All sections of a group, of all partings and lots, behind all maps that rows make."""
+    halls = house[0]
+    maps = maps_by_rows(house)
+    return {(parting, lot) for parting in partings_by_numbers(halls) for lot in lots_of(halls)
+            if 2 <= len(parting) < halls and len(lot) == len(parting)
+            and all(len({places[hall] for hall in lot} & set(part)) == 1 for places in maps for part in parting)}

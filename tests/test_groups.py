@@ -8,22 +8,18 @@ from resetcalls.groups import (barring_nets, group_bar, kept_nets, pair_lots, re
                                shows_group_bar, shows_resisting)
 from resetcalls.nets import is_barring
 from tests.cases import RaisingCase
-from tests.samples import (CUBE, EIGHT_AND_SIX, EIGHT_HALLS, FIVE_RING, FOUR_RING, GROUPS, HOUSE, ONE_HALL, PAIRWISE,
-                           RING, THREE, WITH_4096_NETS, WITH_MORE_NETS, WRONG_HOUSES, WRONG_MAPS, WRONG_NETS,
-                           are_turns, drawn_houses, lots_of, maps_of, nets_of, small_groups, small_houses, whole)
+from tests.samples import (CUBE, EIGHT_AND_SIX, EIGHT_HALLS, FIVE_RING, FOUR_RING, GROUPS, HOUSE, NO_VALUES, ONE_HALL,
+                           PAIRWISE, RING, THREE, WITH_4096_NETS, WITH_MORE_NETS, WRONG_HOUSES, WRONG_MAPS, WRONG_NETS,
+                           drawn_houses, lots_of, maps_of, nets_of, small_groups, small_houses, whole)
 from tests.second_way import bars, each_two_meet, kept_of_all_nets, maps_by_rows, may_bar
 
 OF_TURNS = (pair_lots, kept_nets, barring_nets, resets_all, resisting, group_bar)
 SHOWING = (shows_resisting, shows_group_bar)
-NOT_TURNS = [HOUSE, THREE, EIGHT_AND_SIX, (2, ((0, 0),)), (2, ((0, 1), (1, 1))), (2, ((1, 1), (0, 1))),
-             (8, (tuple(range(8)),) * 5 + ((0,) + tuple(range(7)),))]
-
 # Just one letter moves the halls, the first one or the last.
 STAY, MOVE = tuple(range(8)), tuple(range(1, 8)) + (0,)
 SIX_LETTERS = [(8, (MOVE,) + (STAY,) * 5), (8, (STAY,) * 5 + (MOVE,)), (8, (MOVE,) * 6)]
 
 DIAGONALS = ((0, 2), (1, 3))
-NO_VALUES = [True, False, 0, 1, "", "0022", (), [], {}, {0: 0}, (None,), [0, 0, 2, 2], ((), (), ()), "map"]
 
 # In place of the parts of (RING, (0, 1), (0, 1, 0, 1)) for FOUR_RING.
 WRONG_CLIQUES = [None, True, "01", [0, 1], (), (0,), (1, 0), (0, 0), (0, 2), (0, 1, 2), (0, 4), (-1, 0), (0, True),
@@ -328,44 +324,16 @@ class TooManyNets(RaisingCase):
 
 
 class Errors(RaisingCase):
+    def test_houses_that_are_wrong_or_not_of_turns(self):
+        for function in OF_TURNS:
+            self.takes_turns_alone(function)
+        for function, last in itertools.product(SHOWING, [None, (0, 0), *NO_VALUES]):
+            self.takes_turns_alone(function, last)
+
     def test_wrong_houses(self):
         for value, part in WRONG_HOUSES:
             with self.subTest(value=value):
-                for function in OF_TURNS:
-                    self.raises({"part": part}, BadHouse, function, value)
-                for function, last in itertools.product(SHOWING, [None, *NO_VALUES]):
-                    self.raises({"part": part}, BadHouse, function, value, last)
                 self.raises({"part": part}, BadHouse, resets_with, value, (0, 0, 0))
-
-    def test_letters_that_are_no_turns(self):
-        for house in NOT_TURNS:
-            with self.subTest(house=house):
-                for function in OF_TURNS:
-                    self.raises({}, NotTurns, function, house)
-                for function, last in itertools.product(SHOWING, [None, (0, 0), *NO_VALUES]):
-                    self.raises({}, NotTurns, function, house, last)
-
-    def test_each_house_of_turns_or_not(self):
-        for house in small_houses():
-            for function in OF_TURNS:
-                if are_turns(house):
-                    function(house)
-                else:
-                    self.raises({}, NotTurns, function, house)
-
-    def test_a_house_is_wrong_before_its_turns_are(self):
-        for maps in [((0, 0), (0, 2)), ((0, 0), None), ((0, 0), (0, 1, 2)), ((0, 0),) * 7]:
-            for function in OF_TURNS:
-                self.raises({"part": "maps"}, BadHouse, function, (2, maps))
-            for function in SHOWING:
-                self.raises({"part": "maps"}, BadHouse, function, (2, maps), None)
-
-    def test_too_many_comes_behind(self):
-        no_turns = (8, (tuple(range(8)), (0,) * 8))
-        for function in OF_TURNS:
-            self.raises({}, NotTurns, function, no_turns)
-        for function in SHOWING:
-            self.raises({}, NotTurns, function, no_turns, None)
 
     def test_wrong_maps(self):
         for value in WRONG_MAPS:

@@ -6,6 +6,7 @@ import unittest
 
 from resetcalls.errors import BadMap
 from resetcalls.groups import resets_with
+from resetcalls.lost import Lost
 
 ARGUMENTS = {
     "houses": {"is_house": ["value"], "led": ["house", "lot", "row"], "map_of": ["house", "row"]},
@@ -24,6 +25,15 @@ ARGUMENTS = {
         "resisting": ["house"], "group_bar": ["house"], "shows_resisting": ["house", "value"],
         "shows_group_bar": ["house", "value"],
     },
+    "partings": {
+        "section": ["house"], "shows_section": ["house", "value"], "is_transitive": ["house"],
+        "is_pairwise": ["house"], "is_primitive": ["house"], "kept_partings": ["house"],
+    },
+    "goods": {"count_resetting": ["house"], "resisting_maps": ["house"]},
+    "lost": {"Lost": ["house", "lot"]},
+    "calltexts": {
+        "write_house": ["house"], "write_net": ["halls", "net"], "read_house": ["text"], "read_net": ["text"],
+    },
     "errors": {
         "BadHouse": ["part"], "BadRow": ["index"], "BadLine": ["line", "word"], "TooMany": ["most"],
     },
@@ -39,6 +49,12 @@ class Interface(unittest.TestCase):
                     value = getattr(module, name)
                     self.assertEqual(value.__module__, f"resetcalls.{file}")
                     self.assertEqual(list(inspect.signature(value).parameters), arguments)
+
+    def test_the_class_has_its_methods_itself(self):
+        for name, arguments in {"call": ["self", "letter"], "undo": ["self"], "hint": ["self"]}.items():
+            self.assertEqual(list(inspect.signature(vars(Lost)[name]).parameters), arguments)
+        for name in ("possible", "row", "is_found"):
+            self.assertIsInstance(vars(Lost)[name], property)
 
     def test_the_argument_that_has_a_builtins_name(self):
         self.assertEqual(resets_with.__module__, "resetcalls.groups")
